@@ -1,0 +1,37 @@
+// Package fallow: when is nobody busy? See DOC.md.
+package fallow
+
+import (
+	"fallow/api"
+	"fallow/events"
+	"fallow/giveup"
+)
+
+// Server is calendars of events.
+type Server struct{}
+
+// Check prints an event (P4).
+func Check(event string) (string, api.Errno) {
+	return giveup.Answer(func() string { return events.Read(event).Text() })
+}
+
+// Instances tells an event's instances in a window (P5).
+func Instances(event string, from int, to int) ([]api.Span, api.Errno) { return nil, api.OK }
+
+// New makes a server.
+func New() *Server { return nil }
+
+// Put puts an event into a calendar (P6).
+func (s *Server) Put(calendar string, event string) api.Errno { return api.OK }
+
+// Drop takes an event out of a calendar (P6).
+func (s *Server) Drop(calendar string, uid string) api.Errno { return api.OK }
+
+// Horizon sets how far the index goes (P7).
+func (s *Server) Horizon(time int) api.Errno { return api.OK }
+
+// Busy tells when calendars are busy (P8).
+func (s *Server) Busy(calendars []string, from int, to int) (string, api.Errno) { return "", api.OK }
+
+// Cached tells how many instances are in the index (P7).
+func (s *Server) Cached() int { return 0 }
