@@ -98,6 +98,8 @@ func TestFoldedLines(t *testing.T) {
 	refused(t, api.ErrTime, event(uid, start, "DURATION:PT\n 1H"))
 	refused(t, api.ErrText, event(uid, start, "DURATION:PT\r\n\t1H"))
 	refused(t, api.ErrText, event(" "+uid, start, long))
+	// Folds are taken out ahead of any look at the lines: also behind the last one.
+	printsAs(t, plain+"\r\n ", plain)
 	// What a fold leaves behind is no fold again.
 	refused(t, api.ErrText, event(uid+"\r\r\n \n ", start, long))
 	printsAs(t, event(uid+"\r\r\n \n"+start, long), plain)
