@@ -1,8 +1,14 @@
-// Package days: the days of the Gregorian calendar.
+// Package days: the days of the Gregorian calendar, its weeks, months and years.
 package days
 
 // Day is a year, a month and a day of the month.
 type Day [3]int
+
+// Seconds are what a day has; a week has Weekdays.
+const (
+	Seconds  = 24 * 60 * 60
+	Weekdays = 7
+)
 
 // Years begin with March here: the leap day is the last day of its year then, and moves no other one.
 const (
@@ -14,6 +20,8 @@ const (
 	daysOfFiveMonths = 153
 	// daysAhead lie between the 1 March of the year 0 and the 1 January 1970.
 	daysAhead = 719468
+	// firstWeekday is that of the 1 March of the year 0, a Wednesday.
+	firstWeekday = 2
 )
 
 // Number tells how many days behind the 1 January 1970 the day lies (its year is 1 or greater).
@@ -43,6 +51,40 @@ func Of(number int) Day {
 		year, month = year+1, month-12
 	}
 	return Day{year, month, left + 1}
+}
+
+// OfTime is the day on which a time lies.
+func OfTime(time int) Day {
+	return Of(time / Seconds)
+}
+
+// Begin is the time at which the day begins.
+func (d Day) Begin() int {
+	return d.Number() * Seconds
+}
+
+// Next is the day behind this one.
+func (d Day) Next() Day {
+	// Every month has 28 days, so only behind them the month may end. Days are gone through in great numbers.
+	if d[2] < 28 {
+		return Day{d[0], d[1], d[2] + 1}
+	}
+	return d.Plus(1)
+}
+
+// Plus is the day that lies so many days behind this one.
+func (d Day) Plus(count int) Day {
+	return Of(d.Number() + count)
+}
+
+// To tells how many days behind this one the other one lies.
+func (d Day) To(other Day) int {
+	return other.Number() - d.Number()
+}
+
+// Weekday is counted from Monday, 0, on.
+func (d Day) Weekday() int {
+	return (d.Number() + daysAhead + firstWeekday) % Weekdays
 }
 
 // There tells whether there is such a day.

@@ -1,4 +1,4 @@
-// Package events: events, as they are read and printed.
+// Package events: events, as they are read and printed, and their instances.
 package events
 
 import (

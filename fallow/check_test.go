@@ -1,6 +1,7 @@
 package fallow
 
 import (
+	"slices"
 	"strconv"
 	"strings"
 	"testing"
@@ -305,14 +306,21 @@ func TestTheErrorThatIsNamedFirst(t *testing.T) {
 }
 
 // settled tells whether an answer is as P1 and P4 say of all: beside an error nothing, else an event that is printed as it is.
+// What is printed has the instances of the event itself, in 2024 (P5).
 func settled(t *testing.T, text string) {
 	t.Helper()
+	const from, to = 1704067200, 1735689600
 	got, errno := Check(text)
 	switch errno {
 	case api.OK:
 		printsAs(t, got, got)
+		want, wantErrno := Instances(got, from, to)
+		if spans, errno := Instances(text, from, to); errno != wantErrno || !slices.Equal(spans, want) {
+			t.Errorf("P5: Instances(%q) = %v, %d, but as it is printed %v, %d", text, spans, errno, want, wantErrno)
+		}
 	case api.ErrText, api.ErrTime, api.ErrRule:
 		refused(t, errno, text)
+		answersErrno(t, text, from, to, errno)
 	default:
 		t.Errorf("P1: Check(%q) = %q, %d", text, got, errno)
 	}

@@ -1,4 +1,4 @@
-// Package rules: the rules by which events come again.
+// Package rules: the rules by which events come again, and their days.
 package rules
 
 import (

@@ -14,7 +14,6 @@ import (
 const (
 	minute = 60
 	hour   = 60 * minute
-	day    = 24 * hour
 )
 
 // Parse reads a time.
@@ -35,7 +34,7 @@ func Length(text string) (int, api.Errno) {
 func readTime(text string) int {
 	giveup.Unless(len(text) == len("YYYYMMDDTHHMMSSZ"), api.ErrTime)
 	giveup.Unless(text[8] == 'T' && text[15] == 'Z', api.ErrTime)
-	return readDay(text[:8]).Number()*day +
+	return readDay(text[:8]).Begin() +
 		readClock(text[9:11], 23)*hour +
 		readClock(text[11:13], 59)*minute +
 		readClock(text[13:15], 59)
@@ -59,10 +58,10 @@ func readClock(text string, last int) int {
 }
 
 func writeTime(time int) string {
-	end := days.Day{api.LastYear + 1, 1, 1}.Number() * day
+	end := days.Day{api.LastYear + 1, 1, 1}.Begin()
 	giveup.Unless(0 <= time && time < end, api.ErrTime)
-	date := days.Of(time / day)
-	clock := time % day
+	date := days.OfTime(time)
+	clock := time % days.Seconds
 	return padded(date[0], 4) + padded(date[1], 2) + padded(date[2], 2) + "T" +
 		padded(clock/hour, 2) + padded(clock%hour/minute, 2) + padded(clock%minute, 2) + "Z"
 }
@@ -77,7 +76,7 @@ func readLength(text string) int {
 	giveup.Unless(marked && body != "", api.ErrTime)
 	date, clock, divided := strings.Cut(body, "T")
 	giveup.Unless(!divided || clock != "", api.ErrTime)
-	inDays, date := cutUnit(date, "D", day)
+	inDays, date := cutUnit(date, "D", days.Seconds)
 	inHours, clock := cutUnit(clock, "H", hour)
 	inMinutes, clock := cutUnit(clock, "M", minute)
 	inSeconds, clock := cutUnit(clock, "S", 1)
