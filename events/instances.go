@@ -8,10 +8,15 @@ import (
 	"fallow/days"
 )
 
-// Instances tells the event's instances that begin ahead of end, in order.
-func (e Event) Instances(end int) iter.Seq[api.Span] {
+// Overlapping tells the event's instances that overlap the window: also those that begin ahead of it and reach into it.
+func (e Event) Overlapping(from int, to int) iter.Seq[api.Span] {
+	return e.Instances(from-e.Length+1, to)
+}
+
+// Instances tells the event's instances that begin from the time from on, ahead of to, in order.
+func (e Event) Instances(from int, to int) iter.Seq[api.Span] {
 	return func(yield func(instance api.Span) bool) {
-		for begin := range merged(e.ruleBegins(end), e.extraBegins(end)) {
+		for begin := range merged(e.ruleBegins(from, to), e.extraBegins(from, to)) {
 			if !yield(api.Span{Begin: begin, End: begin + e.Length}) {
 				return
 			}
@@ -20,10 +25,10 @@ func (e Event) Instances(end int) iter.Seq[api.Span] {
 }
 
 // ruleBegins tells the rule's times, or the start alone, without EXDATE's.
-func (e Event) ruleBegins(end int) iter.Seq[int] {
+func (e Event) ruleBegins(from int, to int) iter.Seq[int] {
 	return func(yield func(begin int) bool) {
 		out := e.daysOut()
-		for day := range e.ruleDays(end) {
+		for day := range e.ruleDays(from, to) {
 			if out[day] == 0 && !yield(day.Begin()+e.Start%days.Seconds) {
 				return
 			}
@@ -31,12 +36,12 @@ func (e Event) ruleBegins(end int) iter.Seq[int] {
 	}
 }
 
-func (e Event) ruleDays(end int) iter.Seq[days.Day] {
+func (e Event) ruleDays(from int, to int) iter.Seq[days.Day] {
 	if e.HasRule {
-		return e.Rule.Days(e.Start, end)
+		return e.Rule.Days(e.Start, from, to)
 	}
 	return func(yield func(day days.Day) bool) {
-		if e.Start < end {
+		if from <= e.Start && e.Start < to {
 			yield(days.OfTime(e.Start))
 		}
 	}
@@ -55,10 +60,10 @@ func (e Event) daysOut() map[days.Day]int {
 }
 
 // extraBegins are RDATE's times, without EXDATE's.
-func (e Event) extraBegins(end int) []int {
+func (e Event) extraBegins(from int, to int) []int {
 	var begins []int
 	for _, time := range e.Extra {
-		if e.Start <= time && time < end && !slices.Contains(e.Except, time) {
+		if max(e.Start, from) <= time && time < to && !slices.Contains(e.Except, time) {
 			begins = append(begins, time)
 		}
 	}

@@ -33,7 +33,7 @@ func TestInstances(t *testing.T) {
 		{[]string{"RRULE:FREQ=DAILY", "EXDATE:19700103T000010Z,19700104T000011Z"}, second + 3*86400, []int{second, second + 2*86400}},
 		{[]string{"RRULE:FREQ=DAILY;COUNT=2", "RDATE:19700103T000009Z,19700103T000010Z,19700103T000011Z"}, 10 * second, []int{second, second + 86399, second + 86400, second + 86401}},
 	} {
-		told := event(t, c.lines...).Instances(c.end)
+		told := event(t, c.lines...).Instances(0, c.end)
 		for range 2 {
 			var begins []int
 			for instance := range told {
@@ -51,13 +51,13 @@ func TestInstances(t *testing.T) {
 
 func TestInstancesAreToldOnlyAsFarAsAsked(t *testing.T) {
 	busy := event(t, "RRULE:FREQ=DAILY;COUNT=3", "RDATE:19700102T000011Z,19700104T000011Z,19700104T000012Z")
-	whole := slices.Collect(busy.Instances(10 * second))
+	whole := slices.Collect(busy.Instances(0, 10*second))
 	if len(whole) != 6 {
 		t.Errorf("P5: the instances are %v, want six", whole)
 	}
 	for most := range whole {
 		var told []api.Span
-		for instance := range busy.Instances(10 * second) {
+		for instance := range busy.Instances(0, 10*second) {
 			told = append(told, instance)
 			if len(told) > most {
 				break
@@ -65,6 +65,31 @@ func TestInstancesAreToldOnlyAsFarAsAsked(t *testing.T) {
 		}
 		if !slices.Equal(told, whole[:most+1]) {
 			t.Errorf("P5: %d of the instances are %v, want %v", most+1, told, whole[:most+1])
+		}
+	}
+}
+
+func TestInstancesFromATimeOn(t *testing.T) {
+	for _, lines := range [][]string{
+		nil,
+		{"RDATE:19700102T000012Z,19700103T000000Z"},
+		{"RRULE:FREQ=DAILY;COUNT=3"},
+		{"RRULE:FREQ=DAILY;COUNT=4", "EXDATE:19700103T000010Z", "RDATE:19700102T000011Z,19700105T000009Z"},
+		{"RRULE:FREQ=DAILY;INTERVAL=2", "RDATE:19700103T000010Z"},
+	} {
+		told := event(t, lines...)
+		whole := slices.Collect(told.Instances(0, 5*second))
+		for _, instance := range whole {
+			for from := instance.Begin - 7; from < instance.Begin+7; from++ {
+				want := slices.DeleteFunc(slices.Clone(whole), func(instance api.Span) bool { return instance.Begin < from })
+				if got := slices.Collect(told.Instances(from, 5*second)); !slices.Equal(got, want) {
+					t.Errorf("P8: %v: Instances(%d) = %v, want %v", lines, from, got, want)
+				}
+				want = slices.DeleteFunc(slices.Clone(whole), func(instance api.Span) bool { return instance.End <= from })
+				if got := slices.Collect(told.Overlapping(from, 5*second)); !slices.Equal(got, want) {
+					t.Errorf("P8: %v: Overlapping(%d) = %v, want %v", lines, from, got, want)
+				}
+			}
 		}
 	}
 }

@@ -3,12 +3,15 @@ package fallow
 
 import (
 	"fallow/api"
+	"fallow/calendars"
 	"fallow/events"
 	"fallow/giveup"
 )
 
 // Server is calendars of events.
-type Server struct{}
+type Server struct {
+	calendars *calendars.Calendars
+}
 
 // Check prints an event (P4).
 func Check(event string) (string, api.Errno) {
@@ -21,19 +24,27 @@ func Instances(event string, from int, to int) ([]api.Span, api.Errno) {
 }
 
 // New makes a server.
-func New() *Server { return nil }
+func New() *Server {
+	return &Server{calendars: calendars.New()}
+}
 
 // Put puts an event into a calendar (P6).
-func (s *Server) Put(calendar string, event string) api.Errno { return api.OK }
+func (s *Server) Put(calendar string, event string) api.Errno {
+	return giveup.Outcome(func() { s.put(calendar, event) })
+}
 
 // Drop takes an event out of a calendar (P6).
-func (s *Server) Drop(calendar string, uid string) api.Errno { return api.OK }
+func (s *Server) Drop(calendar string, uid string) api.Errno {
+	return giveup.Outcome(func() { s.calendars.Drop(calendars.Key{Calendar: calendar, UID: uid}) })
+}
 
 // Horizon sets how far the index goes (P7).
 func (s *Server) Horizon(time int) api.Errno { return api.OK }
 
 // Busy tells when calendars are busy (P8).
-func (s *Server) Busy(calendars []string, from int, to int) (string, api.Errno) { return "", api.OK }
+func (s *Server) Busy(calendars []string, from int, to int) (string, api.Errno) {
+	return giveup.Answer(func() string { return s.busy(calendars, from, to) })
+}
 
 // Cached tells how many instances are in the index (P7).
 func (s *Server) Cached() int { return 0 }

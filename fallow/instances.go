@@ -12,7 +12,7 @@ func instances(text string, from int, to int) []api.Span {
 	needWindow(from, to)
 	var overlapping []api.Span
 	count := 0
-	for instance := range event.Instances(to) {
+	for instance := range event.Instances(0, to) {
 		count++
 		giveup.Unless(count <= api.MaxSpans, api.ErrFull)
 		if instance.End > from {

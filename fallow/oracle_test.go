@@ -298,25 +298,53 @@ func wanted(times []int, extra []int, except []int, start int, length int, from 
 	return spans
 }
 
+// made is an event that was made by chance, and all its begins ahead of a time, as the document's words have them.
+type made struct {
+	text   string
+	name   string
+	kind   byte // B or T, or F, if nobody is busy by it
+	length int
+	start  int
+	rule   string
+	except []int
+	extra  []int
+}
+
+func (d dice) made(t *testing.T, name string, start int) made {
+	m := made{name: name, start: start, rule: d.rule(t, start), except: d.times(t, start), extra: d.times(t, start)}
+	m.length = 1 + d.Intn([]int{10, 86400, api.MaxLength}[d.Intn(3)])
+	status := d.Intn(7)
+	m.kind = "BBBTTFF"[status]
+	lines := []string{"UID:" + name, "DTSTART:" + printed(t, start), "DURATION:PT" + strconv.Itoa(m.length) + "S", "RRULE:" + m.rule}
+	lines = slices.Concat(lines, timesLine(t, "EXDATE", m.except), timesLine(t, "RDATE", m.extra),
+		[][]string{nil, {"STATUS:CONFIRMED"}, {"TRANSP:OPAQUE"}, {"STATUS:TENTATIVE"}, {"STATUS:TENTATIVE", "TRANSP:OPAQUE"}, {"STATUS:CANCELLED"}, {"TRANSP:TRANSPARENT"}}[status])
+	m.text = event(lines...)
+	return m
+}
+
+// instances are those that overlap the window.
+func (m made) instances(t *testing.T, days []seen, from int, to int) []api.Span {
+	times := newOracle(days, m.start, m.rule).times(t, to)
+	return wanted(times, m.extra, m.except, m.start, m.length, from, to)
+}
+
 func TestInstancesAreThoseOfTheDocumentsWords(t *testing.T) {
 	days := table()
 	d := dice{rand.New(rand.NewSource(5))}
 	told := 0
 	for range 2000 {
-		start := d.start()
-		rule := d.rule(t, start)
-		length := 1 + d.Intn([]int{10, 86400, api.MaxLength}[d.Intn(3)])
-		except, extra := d.times(t, start), d.times(t, start)
-		lines := []string{uid, "DTSTART:" + printed(t, start), "DURATION:PT" + strconv.Itoa(length) + "S", "RRULE:" + rule}
-		text := event(slices.Concat(lines, timesLine(t, "EXDATE", except), timesLine(t, "RDATE", extra))...)
-		to := min(lastTime, start+1+d.Intn(86400*[]int{30, 400, 2500}[d.Intn(3)]))
-		from := []int{0, d.Intn(to), max(0, to-1-d.Intn(86400*40)), d.near(start)}[d.Intn(4)]
+		m := d.made(t, "a1", d.start())
+		to := min(lastTime, m.start+1+d.Intn(86400*[]int{30, 400, 2500}[d.Intn(3)]))
+		from := []int{0, d.Intn(to), max(0, to-1-d.Intn(86400*40)), d.near(m.start)}[d.Intn(4)]
 		if from >= to {
 			continue
 		}
-		want := wanted(newOracle(days, start, rule).times(t, to), extra, except, start, length, from, to)
+		want := m.instances(t, days, from, to)
 		told += len(want)
-		answers(t, text, from, to, want)
+		answers(t, m.text, from, to, want)
+		s := New()
+		puts(t, s, "c", m.text, api.OK)
+		tells(t, s, "c", from, to, painted(from, to, map[byte][]api.Span{m.kind: want}))
 		if t.Failed() {
 			return
 		}

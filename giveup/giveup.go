@@ -30,3 +30,12 @@ func Answer[T any](work func() T) (answer T, errno api.Errno) {
 	}()
 	return work(), api.OK
 }
+
+// Outcome is Answer for work that has nothing to tell but how it went.
+func Outcome(work func()) api.Errno {
+	_, errno := Answer(func() struct{} {
+		work()
+		return struct{}{}
+	})
+	return errno
+}

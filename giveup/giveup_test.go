@@ -40,3 +40,17 @@ func TestEveryOtherPanicGoesOn(t *testing.T) {
 		t.Errorf("Ways: a panic with %v came out as %v", other, caught)
 	}
 }
+
+func TestOutcome(t *testing.T) {
+	done := 0
+	if errno := Outcome(func() { done++ }); errno != api.OK || done != 1 {
+		t.Errorf("P1: Outcome = %d, the work was done %d times", errno, done)
+	}
+	errno := Outcome(func() {
+		Unless(false, api.ErrNone)
+		done++
+	})
+	if errno != api.ErrNone || done != 1 {
+		t.Errorf("P1: Outcome = %d, want %d; the work was done %d times", errno, api.ErrNone, done)
+	}
+}

@@ -7,18 +7,22 @@ import (
 	"fallow/days"
 )
 
-// Days tells the days of the rule's times that lie ahead of end, in order, for an event with this start.
-// They all have the start's time of day. As end is a time itself, none of them lies behind LastYear.
-func (r Rule) Days(start int, end int) iter.Seq[days.Day] {
-	first := days.OfTime(start)
-	last := min(end-1, r.Until) - start%days.Seconds
+// Days tells the days of the rule's times from the time from on, ahead of to, in order, for an event with this start.
+// They all have the start's time of day. As to is a time itself, none of them lies behind LastYear.
+func (r Rule) Days(start int, from int, to int) iter.Seq[days.Day] {
+	clock := start % days.Seconds
+	last := min(to-1, r.Until) - clock
 	return func(yield func(day days.Day) bool) {
 		counted := 0
-		for day := range r.startingWith(first).chosen(first, last) {
-			if first.To(day) < 0 {
+		for day := range r.startingWith(days.OfTime(start)).chosen(start, from, last) {
+			begin := day.Begin()
+			if begin < start-clock {
 				continue
 			}
-			if day.Begin() > last || !yield(day) {
+			if begin > last {
+				return
+			}
+			if begin >= from-clock && !yield(day) {
 				return
 			}
 			counted++
@@ -49,10 +53,12 @@ func (r Rule) startingWith(start days.Day) Rule {
 }
 
 // chosen tells the choices of the periods in turn, in order, as far as the periods do not begin behind the time last.
-func (r Rule) chosen(start days.Day, last int) iter.Seq[days.Day] {
+// Of the periods that end ahead of the time from, it may leave out the first ones.
+func (r Rule) chosen(start int, from int, last int) iter.Seq[days.Day] {
 	return func(yield func(day days.Day) bool) {
-		for distance := 0; ; distance += r.Interval {
-			period := r.period(start, distance)
+		first := days.OfTime(start)
+		for distance := r.firstDistance(start, from); ; distance += r.Interval {
+			period := r.period(first, distance)
 			if period.First.Begin() > last {
 				return
 			}
@@ -62,6 +68,30 @@ func (r Rule) chosen(start days.Day, last int) iter.Seq[days.Day] {
 				}
 			}
 		}
+	}
+}
+
+// firstDistance is that of the first period in turn that has to be gone through for the times from the time from on.
+func (r Rule) firstDistance(start int, from int) int {
+	// COUNT counts the times from the start on, so none of them can be left out.
+	if r.Count > 0 || from <= start {
+		return 0
+	}
+	distance := r.distance(days.OfTime(start), days.OfTime(from))
+	return distance - distance%r.Interval
+}
+
+// distance is that of the period that has this day, which is not ahead of the start's.
+func (r Rule) distance(start days.Day, day days.Day) int {
+	switch r.Frequency {
+	case Daily:
+		return start.To(day)
+	case Weekly:
+		return days.Week(start, r.WeekStart).First.To(day) / days.Weekdays
+	case Monthly:
+		return (day[0]-start[0])*12 + day[1] - start[1]
+	default:
+		return day[0] - start[0]
 	}
 }
 

@@ -29,7 +29,7 @@ func TestDays(t *testing.T) {
 		{"FREQ=YEARLY", 364 * day, 800 * day, []days.Day{{1970, 12, 31}, {1971, 12, 31}}},
 	} {
 		rule := Read(c.rule)
-		told := rule.Days(c.start, c.end)
+		told := rule.Days(c.start, 0, c.end)
 		if got := slices.Collect(told); !slices.Equal(got, c.want) {
 			t.Errorf("P5: %s: Days(%d, %d) = %v, want %v", c.rule, c.start, c.end, got, c.want)
 		}
@@ -43,15 +43,44 @@ func TestDays(t *testing.T) {
 func TestDaysOfOneRuleWithTwoStarts(t *testing.T) {
 	rule := Read("FREQ=YEARLY;COUNT=1")
 	for _, start := range []days.Day{{1970, 1, 1}, {1999, 12, 31}, {2024, 2, 29}} {
-		if got := slices.Collect(rule.Days(start.Begin(), days.Day{2199, 1, 1}.Begin())); !slices.Equal(got, []days.Day{start}) {
+		if got := slices.Collect(rule.Days(start.Begin(), 0, days.Day{2199, 1, 1}.Begin())); !slices.Equal(got, []days.Day{start}) {
 			t.Errorf("P5: from %v on: %v", start, got)
+		}
+	}
+}
+
+// What is told from a time on is what is told of all times, without those ahead of it.
+func TestDaysFromATimeOn(t *testing.T) {
+	const start, end = 40*day + 3600, 1500 * day
+	for _, text := range []string{
+		"FREQ=DAILY", "FREQ=DAILY;INTERVAL=7", "FREQ=DAILY;INTERVAL=100;COUNT=9", "FREQ=DAILY;BYDAY=SU;UNTIL=19710501T000000Z",
+		"FREQ=WEEKLY", "FREQ=WEEKLY;INTERVAL=3;BYDAY=MO,TU,WE,TH,FR,SA,SU", "FREQ=WEEKLY;INTERVAL=2;BYDAY=SU,TU;WKST=WE", "FREQ=WEEKLY;BYDAY=MO,TU,SU;BYSETPOS=-1,2;WKST=SU", "FREQ=WEEKLY;COUNT=30;BYDAY=MO,FR",
+		"FREQ=MONTHLY", "FREQ=MONTHLY;INTERVAL=5;BYMONTHDAY=1,-1", "FREQ=MONTHLY;BYDAY=MO,TU,WE,TH,FR;BYSETPOS=-1", "FREQ=MONTHLY;COUNT=20;BYDAY=2TU,-1SU",
+		"FREQ=YEARLY", "FREQ=YEARLY;INTERVAL=2;BYMONTHDAY=1,31", "FREQ=YEARLY;BYDAY=53TH,-1FR,10MO", "FREQ=YEARLY;COUNT=3;BYMONTH=1,12",
+	} {
+		rule := Read(text)
+		whole := slices.Collect(rule.Days(start, 0, end))
+		if len(whole) < 3 {
+			t.Errorf("P5: %s has the days %v: too few to tell", text, whole)
+		}
+		for from := start - 3*day; from < end+3*day; from += 5*day - 1000 {
+			want := slices.DeleteFunc(slices.Clone(whole), func(told days.Day) bool { return told.Begin()+3600 < from })
+			if got := slices.Collect(rule.Days(start, from, end)); !slices.Equal(got, want) {
+				t.Fatalf("P8: %s: Days(%d, %d, %d) = %v, want %v", text, start, from, end, got, want)
+			}
+		}
+	}
+	rule := Read("FREQ=DAILY")
+	for from, want := range map[int]int{-day: 2, start: 2, start + 1: 1, start + day: 1, start + day + 1: 0} {
+		if got := slices.Collect(rule.Days(start, from, start+day+1)); len(got) != want {
+			t.Errorf("P8: Days from %d on: %v, want %d", from, got, want)
 		}
 	}
 }
 
 func TestDaysAreToldOnlyAsFarAsAsked(t *testing.T) {
 	told := 0
-	for range Read("FREQ=MONTHLY;BYDAY=MO,TU").Days(0, days.Day{2199, 1, 1}.Begin()) {
+	for range Read("FREQ=MONTHLY;BYDAY=MO,TU").Days(0, 0, days.Day{2199, 1, 1}.Begin()) {
 		told++
 		if told == 3 {
 			break

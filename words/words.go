@@ -50,13 +50,13 @@ func Signed(text string, most int, errno api.Errno) int {
 	return number
 }
 
-// Name reads a name.
+// Name reads a name. It is a copy: names are kept, and a piece of a text would keep the whole of it.
 func Name(text string, errno api.Errno) string {
 	giveup.Unless(text != "" && len(text) <= api.MaxName, errno)
 	for i := range len(text) {
 		giveup.Unless(isDigit(text[i]) || 'a' <= text[i] && text[i] <= 'z', errno)
 	}
-	return text
+	return strings.Clone(text)
 }
 
 // Choice tells which one of choices the text is.

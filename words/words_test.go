@@ -4,6 +4,7 @@ import (
 	"slices"
 	"strings"
 	"testing"
+	"unsafe"
 
 	"fallow/api"
 	"fallow/giveup"
@@ -50,6 +51,14 @@ func TestName(t *testing.T) {
 		if got != "" || errno != api.ErrName {
 			t.Errorf("P4: Name(%q) = %q, %d, want ErrName", text, got, errno)
 		}
+	}
+}
+
+// A name that is kept does not keep the text from which it was read.
+func TestNameIsACopy(t *testing.T) {
+	text := "name and more"
+	if name := Name(text[:4], api.ErrName); unsafe.StringData(name) == unsafe.StringData(text) {
+		t.Errorf("P2: the name %q lies in the text itself", name)
 	}
 }
 
