@@ -3,6 +3,7 @@ package calendars
 
 import (
 	"iter"
+	"maps"
 	"slices"
 
 	"fallow/api"
@@ -26,25 +27,27 @@ func New() *Calendars {
 	return &Calendars{events: map[Key]events.Event{}}
 }
 
-// Put puts an event into a calendar, in the place of one with the same UID; it gives up with ErrFull, if there is no
-// room for it.
-func (c *Calendars) Put(calendar string, event events.Event) {
-	key := Key{Calendar: calendar, UID: event.UID}
-	known := slices.Contains(c.names, calendar)
+// Put puts an event with the key's UID into the key's calendar; it gives up with ErrFull, if there is no room for it.
+// It tells the event with this key whose place it takes, if there is one.
+func (c *Calendars) Put(key Key, event events.Event) (old events.Event, replaced bool) {
+	known := slices.Contains(c.names, key.Calendar)
 	giveup.Unless(known || len(c.names) < api.MaxCalendars, api.ErrFull)
-	_, replaced := c.events[key]
+	old, replaced = c.events[key]
 	giveup.Unless(replaced || len(c.events) < api.MaxEvents, api.ErrFull)
 	if !known {
-		c.names = append(c.names, calendar)
+		c.names = append(c.names, key.Calendar)
 	}
 	c.events[key] = event
+	return old, replaced
 }
 
-// Drop takes an event out of its calendar, which stays; it gives up with ErrNone, if there is no such event.
-func (c *Calendars) Drop(key Key) {
-	_, there := c.events[key]
+// Drop takes an event out of its calendar, which stays, and tells it; it gives up with ErrNone, if there is no such
+// event.
+func (c *Calendars) Drop(key Key) events.Event {
+	event, there := c.events[key]
 	giveup.Unless(there, api.ErrNone)
 	delete(c.events, key)
+	return event
 }
 
 // Need gives up with ErrName, if there are no names, too many or one twice, and with ErrNone, if one of the calendars
@@ -57,6 +60,11 @@ func (c *Calendars) Need(names []string) {
 	for _, name := range names {
 		giveup.Unless(slices.Contains(c.names, name), api.ErrNone)
 	}
+}
+
+// All tells the events of all calendars, in no order.
+func (c *Calendars) All() iter.Seq2[Key, events.Event] {
+	return maps.All(c.events)
 }
 
 // Events tells the events of these calendars, in no order.

@@ -1,6 +1,7 @@
 package calendars
 
 import (
+	"maps"
 	"slices"
 	"strconv"
 	"testing"
@@ -11,7 +12,7 @@ import (
 )
 
 func put(c *Calendars, calendar string, uid string, start int) api.Errno {
-	return giveup.Outcome(func() { c.Put(calendar, events.Event{UID: uid, Start: start}) })
+	return giveup.Outcome(func() { c.Put(Key{Calendar: calendar, UID: uid}, events.Event{UID: uid, Start: start}) })
 }
 
 func drop(c *Calendars, calendar string, uid string) api.Errno {
@@ -63,6 +64,41 @@ func TestPutAndDrop(t *testing.T) {
 	has(t, "P6: b", starts(c, "b"))
 	is(t, "P6: b stays", need(c, "b"), api.OK)
 	has(t, "P6: a", starts(c, "a"), 2, 4)
+}
+
+// What goes is told: somebody may have kept something of it.
+func TestEventsThatGoAreTold(t *testing.T) {
+	c := New()
+	key := Key{Calendar: "a", UID: "u"}
+	if old, replaced := c.Put(key, events.Event{UID: "u", Start: 1}); replaced || old.Start != 0 {
+		t.Errorf("P6: a new event took the place of %v, %t", old, replaced)
+	}
+	if old, replaced := c.Put(Key{Calendar: "b", UID: "u"}, events.Event{UID: "u", Start: 5}); replaced || old.Start != 0 {
+		t.Errorf("P6: an event of another calendar took the place of %v, %t", old, replaced)
+	}
+	for start := 2; start < 5; start++ {
+		if old, replaced := c.Put(key, events.Event{UID: "u", Start: start}); !replaced || old.Start != start-1 {
+			t.Errorf("P6: it took the place of %v, %t, want %d", old, replaced, start-1)
+		}
+	}
+	if old := c.Drop(key); old.Start != 4 {
+		t.Errorf("P6: %v was dropped", old)
+	}
+}
+
+func TestAll(t *testing.T) {
+	c := New()
+	want := map[Key]int{{"a", "u"}: 1, {"a", "v"}: 2, {"b", "u"}: 3}
+	for key, start := range want {
+		c.Put(key, events.Event{UID: key.UID, Start: start})
+	}
+	got := map[Key]int{}
+	for key, event := range c.All() {
+		got[key] = event.Start
+	}
+	if !maps.Equal(got, want) {
+		t.Errorf("P7: all events are %v, want %v", got, want)
+	}
 }
 
 func TestEventsAreToldOnlyAsFarAsAsked(t *testing.T) {

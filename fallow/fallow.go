@@ -6,11 +6,13 @@ import (
 	"fallow/calendars"
 	"fallow/events"
 	"fallow/giveup"
+	"fallow/index"
 )
 
 // Server is calendars of events.
 type Server struct {
 	calendars *calendars.Calendars
+	index     *index.Index
 }
 
 // Check prints an event (P4).
@@ -25,7 +27,7 @@ func Instances(event string, from int, to int) ([]api.Span, api.Errno) {
 
 // New makes a server.
 func New() *Server {
-	return &Server{calendars: calendars.New()}
+	return &Server{calendars: calendars.New(), index: index.New()}
 }
 
 // Put puts an event into a calendar (P6).
@@ -35,11 +37,13 @@ func (s *Server) Put(calendar string, event string) api.Errno {
 
 // Drop takes an event out of a calendar (P6).
 func (s *Server) Drop(calendar string, uid string) api.Errno {
-	return giveup.Outcome(func() { s.calendars.Drop(calendars.Key{Calendar: calendar, UID: uid}) })
+	return giveup.Outcome(func() { s.drop(calendar, uid) })
 }
 
 // Horizon sets how far the index goes (P7).
-func (s *Server) Horizon(time int) api.Errno { return api.OK }
+func (s *Server) Horizon(time int) api.Errno {
+	return giveup.Outcome(func() { s.moveHorizon(time) })
+}
 
 // Busy tells when calendars are busy (P8).
 func (s *Server) Busy(calendars []string, from int, to int) (string, api.Errno) {
@@ -47,4 +51,6 @@ func (s *Server) Busy(calendars []string, from int, to int) (string, api.Errno) 
 }
 
 // Cached tells how many instances are in the index (P7).
-func (s *Server) Cached() int { return 0 }
+func (s *Server) Cached() int {
+	return s.index.Count()
+}

@@ -93,6 +93,7 @@ func TestSecondsOfTheWindow(t *testing.T) {
 // model is a server as the document has it, told in the plainest way.
 type model struct {
 	calendars map[string]map[string]kept
+	horizon   int
 }
 
 // kept is an event's kind and its instances.
@@ -101,7 +102,22 @@ type kept struct {
 	instances []api.Span
 }
 
-func (m model) put(calendar string, name string, event kept) api.Errno {
+// indexed counts the instances that the index has with a horizon.
+func (m *model) indexed(horizon int) int {
+	count := 0
+	for _, calendar := range m.calendars {
+		for _, event := range calendar {
+			for _, instance := range event.instances {
+				if event.kind != 'F' && instance.Begin < horizon {
+					count++
+				}
+			}
+		}
+	}
+	return count
+}
+
+func (m *model) put(calendar string, name string, event kept) api.Errno {
 	count := 0
 	for _, calendar := range m.calendars {
 		count += len(calendar)
@@ -114,10 +130,13 @@ func (m model) put(calendar string, name string, event kept) api.Errno {
 		m.calendars[calendar] = map[string]kept{}
 	}
 	m.calendars[calendar][name] = event
+	if m.indexed(m.horizon) > api.MaxIndex {
+		m.horizon = 0
+	}
 	return api.OK
 }
 
-func (m model) drop(calendar string, name string) api.Errno {
+func (m *model) drop(calendar string, name string) api.Errno {
 	if _, there := m.calendars[calendar][name]; !there {
 		return api.ErrNone
 	}
@@ -125,7 +144,18 @@ func (m model) drop(calendar string, name string) api.Errno {
 	return api.OK
 }
 
-func (m model) covers(names []string, from int, to int) (map[byte][]api.Span, api.Errno) {
+func (m *model) move(time int) api.Errno {
+	if time < 0 || time > lastTime {
+		return api.ErrTime
+	}
+	if m.indexed(time) > api.MaxIndex {
+		return api.ErrFull
+	}
+	m.horizon = time
+	return api.OK
+}
+
+func (m *model) covers(names []string, from int, to int) (map[byte][]api.Span, api.Errno) {
 	covers := map[byte][]api.Span{}
 	for _, name := range names {
 		if m.calendars[name] == nil {
@@ -139,6 +169,9 @@ func (m model) covers(names []string, from int, to int) (map[byte][]api.Span, ap
 			}
 		}
 	}
+	if to > m.horizon && m.indexed(to) <= api.MaxIndex {
+		m.horizon = to
+	}
 	return covers, api.OK
 }
 
@@ -147,33 +180,74 @@ type pair struct {
 	server *Server
 	model  model
 	days   []seen
-	begin  int // the events lie about it
+	begin  int  // the events lie about it
+	dense  bool // many events come again each day: there are more instances than the index has room for
+	// How often something came of MaxIndex: by Put, by Horizon, by Busy.
+	emptied, refused, unmoved int
 }
 
 const modelDays = 120
 
-func (p pair) step(t *testing.T, d dice) {
+// end is the time up to which the model knows the instances.
+func (p *pair) end() int {
+	return min(lastTime, p.begin+modelDays*86400)
+}
+
+func (p *pair) step(t *testing.T, d dice) {
 	calendar := "c" + strconv.Itoa(d.Intn(api.MaxCalendars+2))
 	name := "u" + strconv.Itoa(d.Intn(5))
-	switch d.Intn(8) {
+	switch d.Intn(10) {
 	case 0, 1, 2, 3:
-		m := d.made(t, name, max(0, min(lastTime, p.begin+(d.Intn(60)-30)*43200)))
-		instances := m.instances(t, p.days, 0, min(lastTime, p.begin+modelDays*86400))
-		puts(t, p.server, calendar, m.text, p.model.put(calendar, name, kept{m.kind, instances}))
+		p.put(t, d, calendar, name)
 	case 4:
 		drops(t, p.server, calendar, name, p.model.drop(calendar, name))
+	case 5, 6:
+		p.move(t, d)
 	default:
 		p.ask(t, d)
 	}
+	indexed(t, p.server, p.model.horizon, p.model.indexed(p.model.horizon))
 }
 
-func (p pair) ask(t *testing.T, d dice) {
+func (p *pair) put(t *testing.T, d dice, calendar string, name string) {
+	m := d.made(t, name, max(0, min(lastTime, p.begin+(d.Intn(60)-30)*43200)))
+	if p.dense && d.Intn(3) > 0 {
+		m = m.ruled("FREQ=DAILY")
+	}
+	instances := m.instances(t, p.days, 0, p.end())
+	before := p.model.horizon
+	puts(t, p.server, calendar, m.text, p.model.put(calendar, name, kept{m.kind, instances}))
+	if p.model.horizon < before {
+		p.emptied++
+	}
+}
+
+func (p *pair) move(t *testing.T, d dice) {
+	times := []int{0, -1, lastTime + 1, p.end(), p.begin + d.Intn(modelDays*86400), p.begin + d.Intn(modelDays)*86400, p.begin - d.Intn(40*86400)}
+	// A time at which an instance begins, or the one next to it.
+	for _, calendar := range p.model.calendars {
+		for _, event := range calendar {
+			for _, instance := range event.instances {
+				times = append(times, instance.Begin, instance.Begin+1)
+			}
+		}
+	}
+	slices.Sort(times)
+	time := min(times[d.Intn(len(times))], p.end())
+	errno := p.model.move(time)
+	horizon(t, p.server, time, errno)
+	if errno == api.ErrFull {
+		p.refused++
+	}
+}
+
+func (p *pair) ask(t *testing.T, d dice) {
 	var names []string
 	for _, i := range d.Perm(api.MaxCalendars + 2)[:1+d.Intn(4)] {
 		names = append(names, "c"+strconv.Itoa(i))
 	}
 	from := max(0, min(lastTime-1, p.begin+(d.Intn(modelDays)-40)*86400+d.Intn(3)*30000))
-	to := min(lastTime, p.begin+modelDays*86400, from+1+d.Intn([]int{1000, 86400, 40 * 86400}[d.Intn(3)]))
+	to := min(p.end(), from+1+d.Intn([]int{1000, 86400, 40 * 86400}[d.Intn(3)]))
 	if from >= to {
 		return
 	}
@@ -183,19 +257,22 @@ func (p pair) ask(t *testing.T, d dice) {
 		return
 	}
 	tells(t, p.server, strings.Join(names, " "), from, to, painted(from, to, covers))
+	if p.model.horizon < to {
+		p.unmoved++
+	}
 }
 
 // Two servers go on in turns: neither tells anything of the other.
 func TestServersAreAsTheDocumentsWords(t *testing.T) {
 	days := table()
 	d := dice{rand.New(rand.NewSource(6))}
-	full := 0
+	full, emptied, refused, unmoved := 0, 0, 0, 0
 	for range 12 {
 		var pairs [2]pair
 		for i := range pairs {
-			pairs[i] = pair{New(), model{map[string]map[string]kept{}}, days, d.start()}
+			pairs[i] = pair{server: New(), model: model{calendars: map[string]map[string]kept{}}, days: days, begin: d.start(), dense: i > 0}
 		}
-		for range 300 {
+		for range 400 {
 			pairs[d.Intn(len(pairs))].step(t, d)
 			if t.Failed() {
 				return
@@ -203,9 +280,13 @@ func TestServersAreAsTheDocumentsWords(t *testing.T) {
 		}
 		for _, p := range pairs {
 			full += len(p.model.calendars) / api.MaxCalendars
+			emptied, refused, unmoved = emptied+p.emptied, refused+p.refused, unmoved+p.unmoved
 		}
 	}
 	if full < 12 {
 		t.Errorf("%d servers had all their calendars: too few to tell", full)
+	}
+	if emptied < 20 || refused < 100 || unmoved < 100 {
+		t.Errorf("MaxIndex emptied %d indexes, and left %d and %d horizons as they were: too few to tell", emptied, refused, unmoved)
 	}
 }

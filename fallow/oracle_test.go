@@ -322,6 +322,13 @@ func (d dice) made(t *testing.T, name string, start int) made {
 	return m
 }
 
+// ruled is the event with another rule.
+func (m made) ruled(rule string) made {
+	m.text = strings.Replace(m.text, "RRULE:"+m.rule+"\r\n", "RRULE:"+rule+"\r\n", 1)
+	m.rule = rule
+	return m
+}
+
 // instances are those that overlap the window.
 func (m made) instances(t *testing.T, days []seen, from int, to int) []api.Span {
 	times := newOracle(days, m.start, m.rule).times(t, to)
@@ -344,7 +351,13 @@ func TestInstancesAreThoseOfTheDocumentsWords(t *testing.T) {
 		answers(t, m.text, from, to, want)
 		s := New()
 		puts(t, s, "c", m.text, api.OK)
+		// Whether the index is filled at once or piece by piece, all of it goes with the event.
+		for range d.Intn(4) {
+			_ = s.Horizon(to - d.Intn(to+1-min(m.start, to)))
+		}
 		tells(t, s, "c", from, to, painted(from, to, map[byte][]api.Span{m.kind: want}))
+		drops(t, s, "c", "a1", api.OK)
+		cached(t, s, 0)
 		if t.Failed() {
 			return
 		}
